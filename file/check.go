@@ -8,7 +8,7 @@ import (
 
 // writable tells whether a table is within the bounds.
 func writable(t api.Table) bool {
-	if !rightNames(t.Names) || len(t.Groups) > api.MaxGroups {
+	if !RightNames(t.Names) || len(t.Groups) > api.MaxGroups {
 		return false
 	}
 	for _, group := range t.Groups {
@@ -19,7 +19,8 @@ func writable(t api.Table) bool {
 	return true
 }
 
-func rightNames(names []string) bool {
+// RightNames tells whether a file may have columns of these names.
+func RightNames(names []string) bool {
 	if len(names) < 1 || len(names) > api.MaxColumns {
 		return false
 	}

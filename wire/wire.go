@@ -12,7 +12,7 @@ func AppendVarint(to []byte, n int) []byte {
 
 // AppendSum adds the sum of data, the highest byte first.
 func AppendSum(to, data []byte) []byte {
-	sum := sumOf(data)
+	sum := Sum(data)
 	return append(to, byte(sum>>24), byte(sum>>16), byte(sum>>8), byte(sum))
 }
 
@@ -21,7 +21,8 @@ func AppendPair(to []byte, n int) []byte {
 	return append(to, byte(n>>8), byte(n))
 }
 
-func sumOf(data []byte) uint32 {
+// Sum answers the sum of data.
+func Sum(data []byte) uint32 {
 	sum := uint32(2166136261)
 	for _, b := range data {
 		sum = (sum ^ uint32(b)) * 16777619
